@@ -1,0 +1,1 @@
+"""Decidebook: books of decisions, one room for each meaning."""

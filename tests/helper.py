@@ -1,0 +1,131 @@
+"""What several tests need: sentences of a given size, a plain reading of the document, and refusals."""
+
+import itertools
+import random
+
+from decidebook.errors import BookError
+
+MARKS = "abcdefgh"
+A = ("mark", "a")
+B = ("mark", "b")
+C = ("mark", "c")
+PAIRING = ("and", "or", "either", "if")
+
+
+def refused(test, kind, call, *given):
+    """The call is refused with this very class, and BookError and ValueError take it too."""
+    for taken in (kind, BookError, ValueError):
+        with test.assertRaises(taken) as caught:
+            call(*given)
+        test.assertIs(type(caught.exception), kind, given)
+
+
+def of_tuples(many):
+    """A sentence of so many tuples, no deeper than it must be."""
+    if many == 1:
+        return A
+    if many == 2:
+        return ("not", B)
+    left = (many - 1) // 2
+    return ("or", of_tuples(left), of_tuples(many - 1 - left))
+
+
+def nested(deep, word="not", inner=A):
+    """A sentence that is so deep; some and each stand with c."""
+    head = (word, "c") if word in ("some", "each") else (word,)
+    for _ in range(deep - 1):
+        inner = head + (inner,)
+    return inner
+
+
+def great_and_deep(tuples, deep):
+    """A sentence of so many tuples that is so deep: a chain, with the tuples that are left beside its end."""
+    chain = deep - 10
+    return nested(chain + 1, "not", ("and", nested(9), of_tuples(tuples - chain - 1 - 9)))
+
+
+def plain_text(some):
+    """Point 5, word by word; it asks nothing of bounds."""
+    word = some[0]
+    if word in ("yes", "no"):
+        return word
+    if word == "mark":
+        return some[1]
+    if word in ("some", "each"):
+        return word + " " + some[1] + "(" + plain_text(some[2]) + ")"
+    return word + "(" + ", ".join(plain_text(part) for part in some[1:]) + ")"
+
+
+def plain_worth(some, values):
+    """Point 4, word by word; the row is a dict from marks to values."""
+    word = some[0]
+    if word in ("yes", "no"):
+        return 1 if word == "yes" else 0
+    if word == "mark":
+        return values[some[1]]
+    if word in ("some", "each"):
+        other = dict(values)
+        other[some[1]] = 1 - values[some[1]]
+        both = plain_worth(some[2], values) + plain_worth(some[2], other)
+        return int(both >= 1) if word == "some" else int(both == 2)
+    parts = [plain_worth(part, values) for part in some[1:]]
+    if word == "not":
+        return 1 - parts[0]
+    if word == "and":
+        return int(parts == [1, 1])
+    if word == "or":
+        return int(1 in parts)
+    if word == "either":
+        return int(sorted(parts) == [0, 1])
+    return int(parts[0] == 0 or parts[1] == 1)
+
+
+def rows(many):
+    return [list(row) for row in itertools.product((0, 1), repeat=many)]
+
+
+def shallow(marks):
+    """All sentences of these marks that are at most 2 deep."""
+    least = [("yes",), ("no",)] + [("mark", mark) for mark in marks]
+    found = list(least)
+    found += [("not", part) for part in least]
+    found += [(word, one, other) for word in PAIRING for one in least for other in least]
+    found += [(word, mark, part) for word in ("some", "each") for mark in marks for part in least]
+    return found
+
+
+def drawn(number, marks, deep):
+    """A sentence of these marks, at most so deep; the same one for the same number."""
+    return draw(random.Random(number), marks, deep)
+
+
+def draw(source, marks, deep):
+    word = source.choice(("mark", "not", "some", "each") + PAIRING + PAIRING)
+    if deep == 1:
+        word = source.choice(("yes", "no", "mark", "mark", "mark"))
+    if word in ("yes", "no"):
+        return (word,)
+    if word == "mark":
+        return (word, source.choice(marks))
+    if word in ("some", "each"):
+        return (word, source.choice(marks), draw(source, marks, deep - 1))
+    many = 1 if word == "not" else 2
+    return (word,) + tuple(draw(source, marks, deep - 1) for _ in range(many))
+
+
+def no_sentences():
+    """Tuples of texts and tuples that are no sentences, for every reason that point 3 has."""
+    return [
+        (), ((),), ("",), ("yes", "no"), ("yes", ()), ("yes", ("yes",)), ("no", "a"), ("Yes",), ("yes ",), ("a",),
+        ("mark",), ("mark", "i"), ("mark", "A"), ("mark", ""), ("mark", "ab"), ("mark", "a", "b"), ("mark", A),
+        ("mark", ("a",)), ("mark", "a", A), (A,), (A, A), (("yes",),), (("not",), A), ("marks", "a"),
+        ("not",), ("not", "a"), ("not", "yes"), ("not", ()), ("not", A, B), ("not", ("not",)), ("not", "a", A),
+        ("and",), ("and", A), ("and", A, B, C), ("and", "a", B), ("and", A, "b"), ("or", A), ("or", A, ()),
+        ("either", A), ("either", A, B, A), ("if", A), ("if", A, B, C), ("if", A, ("mark", "z")), ("nor", A, B),
+        ("xor", A, B), ("some",), ("some", "a"), ("some", A), ("some", "i", A), ("some", "", A), ("some", "ab", A),
+        ("some", A, A), ("some", A, "a"), ("some", "a", "a"), ("some", "a", A, B), ("some", "a", "b", A),
+        ("each",), ("each", "a"), ("each", "h", ()), ("each", "I", A), ("each", "a", A, A), ("each", ("a",), A),
+        ("AND", A, B), ("not", ("and", A, ("or", B, ("mark", "x")))), of_tuples(201), of_tuples(202), of_tuples(400),
+        nested(25), nested(26), nested(60), nested(25, "some"), nested(25, "each"), great_and_deep(201, 24),
+        great_and_deep(200, 25), great_and_deep(201, 25),
+    ]
