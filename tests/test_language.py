@@ -1,4 +1,4 @@
-"""Those rules of LANGUAGE.md that can be seen in a file's signs and in its tree."""
+"""Some of the rules of LANGUAGE.md: those that are easily seen in the signs or the tree of one file."""
 
 import ast
 import builtins
