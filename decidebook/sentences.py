@@ -87,10 +87,14 @@ def must_be_sentence(some):
         raise NoSentence("this tuple is no sentence")
 
 
+def must_have_mark(order, letter):
+    if letter not in order:
+        raise NoMark(f"{letter!r} is no mark of the order")
+
+
 def must_have_marks(order, sentence):
     for letter in letters_in(sentence):
-        if letter not in order:
-            raise NoMark(f"the letter {letter!r} is no mark of the order")
+        must_have_mark(order, letter)
 
 
 def must_be_row(order, row):

@@ -28,3 +28,30 @@ def value_at(table, row):
     for place, value in enumerate(row):
         bit = bit | (value << place)
     return (table >> bit) & 1
+
+
+def held_at(table, place, value, marks):
+    ones = table & rows_with(place, marks)
+    kept = ones if value == 1 else table ^ ones
+    return kept | flipped(kept, place, marks)
+
+
+def first_place(table, marks):
+    # A table that has no row, or all of them, hangs on no mark: its place is behind them all.
+    place = 0
+    while place < marks and flipped(table, place, marks) == table:
+        place += 1
+    return place
+
+
+def joined_by(word, one, other, every):
+    table = 0
+    if word[0] == "1":
+        table = table | (every ^ (one | other))
+    if word[1] == "1":
+        table = table | (other & (every ^ one))
+    if word[2] == "1":
+        table = table | (one & (every ^ other))
+    if word[3] == "1":
+        table = table | (one & other)
+    return table

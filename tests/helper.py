@@ -1,8 +1,9 @@
-"""What several tests need: sentences of a given size, a plain reading of the document, and refusals."""
+"""What several tests need: sentences, books and refusals, and a plain reading of the document."""
 
 import itertools
 import random
 
+from decidebook.book import Book
 from decidebook.errors import BookError
 
 MARKS = "abcdefgh"
@@ -10,6 +11,9 @@ A = ("mark", "a")
 B = ("mark", "b")
 C = ("mark", "c")
 PAIRING = ("and", "or", "either", "if")
+NO_ORDERS = [[], ["i"], ["A"], [""], ["ab"], ["a", "a"], ["a", "b", "a"], ["a", ""], ["a", "i"], [" a"], ["a\n"],
+             ["abcdefgh"], list(MARKS) + ["a"], list(MARKS) + ["i"], ["a"] * 700, ["yes"], ["1"], ["-"], ["`"]]
+NO_ROWS_OF_TWO = [[], [0], [1], [0, 0, 0], [0, 2], [-1, 0], [1, 10 ** 60 - 1], [1 - 10 ** 60, 1], [0] * 700]
 
 
 def refused(test, kind, call, *given):
@@ -129,3 +133,115 @@ def no_sentences():
         nested(25), nested(26), nested(60), nested(25, "some"), nested(25, "each"), great_and_deep(201, 24),
         great_and_deep(200, 25), great_and_deep(201, 25),
     ]
+
+
+def orders():
+    """Orders of one to eight marks, by the alphabet and not."""
+    for many in range(1, 9):
+        yield list(MARKS[:many])
+        yield list("ecagbhdf"[:many])
+
+
+def drawn_book(number, order, many=12, deep=5):
+    """A book with some sentences entered; the same one for the same numbers."""
+    book = Book(order)
+    for turn in range(many):
+        book.enter(drawn(100 * number + turn, order, deep))
+    return book
+
+
+def no_rooms(book):
+    """Numbers that are no rooms of the book."""
+    return [-1, -2, -book.size(), book.size(), book.size() + 1, 10 ** 60 - 1, 1 - 10 ** 60]
+
+
+def plain_lead(book, number, row):
+    """Point 7, word by word."""
+    while number not in (0, 1):
+        told = book.room(number)
+        number = told[1 + row[book.order().index(told[0])]]
+    return number
+
+
+def meaning(book, number):
+    return [plain_lead(book, number, row) for row in rows(len(book.order()))]
+
+
+def yes_rows(book, number):
+    return [row for row in rows(len(book.order())) if plain_lead(book, number, row) == 1]
+
+
+def plain_below(book, number):
+    """Point 9, word by word."""
+    if number in (0, 1):
+        return {number}
+    told = book.room(number)
+    return {number} | plain_below(book, told[1]) | plain_below(book, told[2])
+
+
+def all_rooms(book):
+    return [book.room(number) for number in range(book.size())]
+
+
+def well_made(test, book):
+    """Point 6, and the last words of point 7: all that is asked of a book's rooms."""
+    order, made = book.order(), all_rooms(book)
+    test.assertEqual(made[:2], [None, None])
+    for number, told in enumerate(made[2:], 2):
+        test.assertIs(type(told), tuple)
+        mark, low, high = told
+        test.assertIn(mark, order)
+        test.assertNotEqual(low, high)
+        for going in (low, high):
+            test.assertTrue(0 <= going < number, told)
+            test.assertTrue(going < 2 or order.index(made[going][0]) > order.index(mark), told)
+    test.assertEqual(len(set(made[2:])), len(made) - 2)
+    meanings = {tuple(meaning(book, number)) for number in range(book.size())}
+    test.assertEqual(len(meanings), book.size())
+
+
+def makes_none(test, book, call, *given):
+    """Tells what the call tells, and sees that the book has the same rooms behind it."""
+    before = all_rooms(book)
+    told = call(*given)
+    test.assertEqual(all_rooms(book), before)
+    return told
+
+
+def refused_by(test, kind, book, call, *given):
+    """The call is refused with this class and makes no room."""
+    makes_none(test, book, refused, test, kind, call, *given)
+
+
+def place_of(book, number):
+    """The place of the room's mark in the order; no and yes stand behind all marks."""
+    told = book.room(number)
+    return len(book.order()) if told is None else book.order().index(told[0])
+
+
+def rows_from_its_mark(book, number):
+    """The values of the room's own mark and those behind it at which it is yes, rising."""
+    place = place_of(book, number)
+    return [row[place:] for row in yes_rows(book, number) if not any(row[:place])]
+
+
+def changed_lists(book, told):
+    """Lists that are this one with a room left out, told twice, put in or exchanged, or two entries changed about."""
+    strangers = [number for number in range(book.size()) if number not in dict(told)]
+    yield []
+    for at, entry in enumerate(told):
+        yield told[:at] + told[at + 1:]
+        yield told[:at] + [entry] + told[at:]
+        yield told + [entry]
+        for number in strangers[:2] + no_rooms(book):
+            yield told[:at] + [(number, entry[1])] + told[at + 1:]
+    for number in strangers + no_rooms(book):
+        yield told + [(number, 0)]
+        yield sorted(told + [(number, 1)], key=lambda entry: entry[0])
+    for one, other in itertools.combinations(range(len(told)), 2):
+        swapped = list(told)
+        swapped[one], swapped[other] = told[other], told[one]
+        yield swapped
+        if told[one][1] != told[other][1]:
+            swapped[one], swapped[other] = (told[one][0], told[other][1]), (told[other][0], told[one][1])
+            yield swapped

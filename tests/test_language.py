@@ -21,6 +21,10 @@ BARRED = re.compile(r"\b(type|typing|typing_extensions|enum|Enum|IntEnum|StrEnum
                     r"ABCMeta|namedtuple|NamedTuple|TypedDict|TYPE_CHECKING|abstractmethod)\b|"
                     r"dataclass|overload|contextmanager")
 
+OWN_UNDERSCORED = ("__init__", "__eq__", "__repr__", "__str__", "__len__")
+
+PYTHONS_OWN = {name for kind in (str, int, list, dict, set, tuple, bytes) for name in dir(kind) if name[0] != "_"}
+
 STATEMENTS = (ast.Assign, ast.AugAssign, ast.If, ast.While, ast.For, ast.Return, ast.Break, ast.Continue, ast.Pass,
               ast.Raise, ast.Try, ast.Expr, ast.FunctionDef, ast.ClassDef, ast.ImportFrom)
 
@@ -56,27 +60,44 @@ def faults_of_statement(node):
         yield "L6: else behind a loop"
 
 
-def own_attributes():
-    """The methods of the package's own classes, and the values that its objects are given."""
-    for path in FILES:
-        for node in ast.walk(ast.parse(path.read_text("ascii"))):
-            if isinstance(node, ast.ClassDef):
-                yield from (inner.name for inner in node.body if isinstance(inner, ast.FunctionDef))
-            if isinstance(node, ast.Attribute) and isinstance(node.ctx, ast.Store):
-                yield node.attr
+def faults_of_class(node):
+    if len(node.bases) > 1 or node.keywords or node.decorator_list:
+        yield "L5: more than one base, or a decorator"
+    if not all(isinstance(inner, (ast.FunctionDef, ast.Pass)) for inner in node.body):
+        yield "L5: something other than methods in a class"
+    names = [inner.name for inner in node.body if isinstance(inner, ast.FunctionDef)]
+    if len(set(names)) < len(names):
+        yield "L18: a method that stands twice"
+    if any(name.startswith("_") and name not in OWN_UNDERSCORED for name in names):
+        yield "L5: this method"
+
+
+def own_methods(trees):
+    classes = [node for tree in trees for node in ast.walk(tree) if isinstance(node, ast.ClassDef)]
+    return {inner.name for node in classes for inner in node.body if isinstance(inner, ast.FunctionDef)}
+
+
+def own_values(trees):
+    """The names of the values that objects are given."""
+    found = [node for tree in trees for node in ast.walk(tree) if isinstance(node, ast.Attribute)]
+    return {node.attr for node in found if isinstance(node.ctx, ast.Store)}
+
+
+TREES = [ast.parse(path.read_text("ascii")) for path in FILES]
+OWN_ATTRIBUTES = own_methods(TREES) | own_values(TREES)
 
 
 def faults_of_name(node, known):
     if isinstance(node, ast.Name):
-        if isinstance(node.ctx, ast.Store) and hasattr(builtins, node.id):
-            yield "L15: a local that is called like a name of Python's own"
+        if isinstance(node.ctx, ast.Store) and (hasattr(builtins, node.id) or node.id in known):
+            yield "L15: a local that is called like a name of Python's own, a class or an import"
         if hasattr(builtins, node.id) and node.id not in OWN_NAMES:
             yield "L8: this built-in name"
         if node.id.startswith("_") or not node.id.isascii():
             yield "L12: this name"
     if isinstance(node, ast.arg) and (hasattr(builtins, node.arg) or node.arg in known):
         yield "L15: this parameter"
-    if isinstance(node, ast.Attribute) and node.attr not in METHODS | set(own_attributes()):
+    if isinstance(node, ast.Attribute) and node.attr not in METHODS | OWN_ATTRIBUTES:
         yield "L25: this method"
 
 
@@ -102,6 +123,7 @@ def faults_of(text):
     known = drawn + [node.name for node in ast.walk(tree) if isinstance(node, ast.ClassDef)]
     for node in ast.walk(tree):
         found = list(faults_of_statement(node)) if isinstance(node, ast.stmt) else []
+        found += list(faults_of_class(node)) if isinstance(node, ast.ClassDef) else []
         found += list(faults_of_name(node, known)) + list(faults_of_value(node))
         for fault in found:
             yield f"{fault}, row {getattr(node, 'lineno', '?')}"
@@ -119,10 +141,23 @@ class Language(unittest.TestCase):
             with self.subTest(path.name):
                 self.assertEqual(list(faults_of(path.read_bytes().decode("ascii"))), [])
 
+    def test_methods_and_values_of_the_packages_own(self):
+        self.assertEqual(own_methods(TREES) & own_values(TREES), set())
+        self.assertEqual(OWN_ATTRIBUTES & PYTHONS_OWN, set())
+
+    def test_no_two_files_draw_from_one_another(self):
+        draws = {path.stem: {node.module.split(".")[1] for node in tree.body if isinstance(node, ast.ImportFrom)}
+                 for path, tree in zip(FILES, TREES)}
+        while draws:
+            ends = {name for name in draws if not draws[name] & set(draws)}
+            self.assertNotEqual(ends, set(), draws)
+            draws = {name: draws[name] for name in draws if name not in ends}
+
     def test_the_faults_are_seen(self):
         for text in ("import os\n", "from .errors import NoRow\n", "x = 1 / 2\n", "x = y = 1\n", "x = 1.5\n",
                      "def f(*a): pass\n", "def f(list): pass\n", "x = {1}\n", "x = eval\n", "with x: pass\n",
-                     "x = y is z\n", "# type\n", "x = y.sort()\n",
+                     "x = y is z\n", "# type\n", "x = y.sort()\n", "class X(Y, Z): pass\n", "class X: y = 1\n",
+                     "class X:\n    def __hash__(self): pass\n", "class X: pass\ndef f(): X = 1\n",
                      "x = '%'\n", "x = 2 ** y\n", "x = 1\t\n", "x = (a for a in b)\n"):
             with self.subTest(text):
                 self.assertNotEqual(list(faults_of(text)), [])

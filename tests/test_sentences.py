@@ -4,11 +4,8 @@ import unittest
 
 from decidebook.errors import NoMark, NoOrder, NoRow, NoSentence
 from decidebook.sentences import is_order, is_sentence, marks_of, words, worth
-from helper import (A, B, C, MARKS, PAIRING, drawn, great_and_deep, nested, no_sentences, of_tuples, plain_worth,
-                    refused, rows, shallow)
-
-NO_ORDERS = [[], ["i"], ["A"], [""], ["ab"], ["a", "a"], ["a", "b", "a"], ["a", ""], ["a", "i"], [" a"], ["a\n"],
-             ["abcdefgh"], list(MARKS) + ["a"], list(MARKS) + ["i"], ["a"] * 700, ["yes"], ["1"], ["-"], ["`"]]
+from helper import (A, B, C, MARKS, NO_ORDERS, PAIRING, drawn, great_and_deep, nested, no_sentences, of_tuples,
+                    plain_worth, refused, rows, shallow)
 
 
 class Orders(unittest.TestCase):
