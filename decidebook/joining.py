@@ -2,7 +2,7 @@
 
 from decidebook.errors import NoNumber, NoWord
 from decidebook.sentences import must_have_mark
-from decidebook.tables import flipped, held_at, joined_by
+from decidebook.tables import chosen, flipped, held_at, joined_by
 
 
 def must_be_word(word):
@@ -50,11 +50,9 @@ def put(book, one, mark, other):
     must_have_mark(book.order(), mark)
     book.must_be_room(one)
     book.must_be_room(other)
-    where = book.table_at(other)
-    elsewhere = book.table_at(1) ^ where
     low = held_table(book, one, mark, 0)
     high = held_table(book, one, mark, 1)
-    return book.room_with((elsewhere & low) | (where & high))
+    return book.room_with(chosen(book.table_at(other), low, high))
 
 
 def held_table(book, one, mark, value):

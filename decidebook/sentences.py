@@ -99,7 +99,7 @@ def must_have_marks(order, sentence):
 
 def must_be_row(order, row):
     if not is_row(order, row):
-        raise NoRow("a row has a value, 0 or 1, for each mark of the order")
+        raise NoRow("a row has a value, 0 or 1, for each of its marks")
 
 
 def tuples_in(sentence):

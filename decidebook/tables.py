@@ -36,12 +36,47 @@ def held_at(table, place, value, marks):
     return kept | flipped(kept, place, marks)
 
 
+def hangs_on(table, place, marks):
+    return flipped(table, place, marks) != table
+
+
 def first_place(table, marks):
     # A table that has no row, or all of them, hangs on no mark: its place is behind them all.
     place = 0
-    while place < marks and flipped(table, place, marks) == table:
+    while place < marks and not hangs_on(table, place, marks):
         place += 1
     return place
+
+
+def without(table, other):
+    return table ^ (table & other)
+
+
+def rows_having(places, values, marks):
+    table = all_rows(marks)
+    for place, value in zip(places, values):
+        ones = rows_with(place, marks)
+        table = table & ones if value == 1 else without(table, ones)
+    return table
+
+
+# The rows of a table that has any are compared at the first one of these places first.
+def first_values(table, places, marks):
+    values = []
+    for place in places:
+        low = held_at(table, place, 0, marks)
+        value = 0 if low != 0 else 1
+        table = held_at(table, place, value, marks)
+        values.append(value)
+    return values
+
+
+def first_row(table, marks):
+    return first_values(table, list(range(marks)), marks)
+
+
+def chosen(where, low, high):
+    return (high & where) | without(low, where)
 
 
 def joined_by(word, one, other, every):

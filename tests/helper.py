@@ -13,6 +13,9 @@ C = ("mark", "c")
 PAIRING = ("and", "or", "either", "if")
 NO_ORDERS = [[], ["i"], ["A"], [""], ["ab"], ["a", "a"], ["a", "b", "a"], ["a", ""], ["a", "i"], [" a"], ["a\n"],
              ["abcdefgh"], list(MARKS) + ["a"], list(MARKS) + ["i"], ["a"] * 700, ["yes"], ["1"], ["-"], ["`"]]
+WORDS = ["".join(figures) for figures in itertools.product("01", repeat=4)]
+NO_WORDS = ["", "0", "000", "00000", "0002", "2000", "000-", "00 1", " 0001", "0001 ", "0001\n", "00o1", "abcd", "and",
+            "0b01", "1" * 2000, "-001", "+001", "01,1"]
 NO_ROWS_OF_TWO = [[], [0], [1], [0, 0, 0], [0, 2], [-1, 0], [1, 10 ** 60 - 1], [1 - 10 ** 60, 1], [0] * 700]
 
 
@@ -208,6 +211,15 @@ def makes_none(test, book, call, *given):
     return told
 
 
+def again(test, book, call, *given):
+    """Tells what the call tells, and sees that it turns no elder room, and that done again it tells and makes alike."""
+    before = all_rooms(book)
+    told = call(*given)
+    test.assertEqual(all_rooms(book)[:len(before)], before)
+    test.assertEqual(makes_none(test, book, call, *given), told)
+    return told
+
+
 def refused_by(test, kind, book, call, *given):
     """The call is refused with this class and makes no room."""
     makes_none(test, book, refused, test, kind, call, *given)
@@ -245,3 +257,48 @@ def changed_lists(book, told):
         if told[one][1] != told[other][1]:
             swapped[one], swapped[other] = (told[one][0], told[other][1]), (told[other][0], told[one][1])
             yield swapped
+
+
+def having(marks, values):
+    """A sentence that is 1 where the marks have these values."""
+    some = ("yes",)
+    for mark, value in zip(marks, values):
+        some = ("and", some, ("mark", mark) if value else ("not", ("mark", mark)))
+    return some
+
+
+def every_meaning(order):
+    """A sentence for each meaning of three marks at most; the bits of its number tell at which rows it is 1."""
+    least = [having(order, row) for row in rows(len(order))]
+    for number in range(2 ** len(least)):
+        some = ("no",)
+        for turn, one in enumerate(least):
+            if number >> turn & 1:
+                some = ("or", some, one)
+        yield some
+
+
+def full_book(order):
+    """A book with a room for each meaning that its marks can have, three at most."""
+    book = Book(order)
+    for some in every_meaning(order):
+        book.enter(some)
+    return book
+
+
+def by_name(book, number):
+    """What the room is worth at the rows of its book's marks, these by the alphabet."""
+    order = book.order()
+    told = []
+    for row in rows(len(order)):
+        values = dict(zip(sorted(order), row))
+        told.append(plain_lead(book, number, [values[mark] for mark in order]))
+    return told
+
+
+def lists_in(told):
+    """All lists in what is told, itself among them."""
+    found = [told] if isinstance(told, list) else []
+    for part in told if isinstance(told, (list, tuple)) else ():
+        found += lists_in(part)
+    return found

@@ -5,9 +5,9 @@ import unittest
 from decidebook.book import Book
 from decidebook.errors import NoMark, NoOrder, NoRoom, NoRow, NoSentence
 from decidebook.sentences import worth
-from helper import (A, B, C, MARKS, NO_ORDERS, NO_ROWS_OF_TWO, all_rooms, drawn, drawn_book, great_and_deep, makes_none,
-                    meaning, nested, no_rooms, no_sentences, of_tuples, orders, plain_below, plain_lead, plain_worth,
-                    refused, refused_by, rows, shallow, well_made)
+from helper import (A, B, C, MARKS, NO_ORDERS, NO_ROWS_OF_TWO, all_rooms, drawn, drawn_book, every_meaning,
+                    great_and_deep, makes_none, meaning, nested, no_rooms, no_sentences, of_tuples, orders, plain_below,
+                    plain_lead, plain_worth, refused, refused_by, rows, shallow, well_made)
 
 # Each row holds sentences with one worth in each row of values.
 ONE_MEANING = [
@@ -60,14 +60,7 @@ class Rooms(unittest.TestCase):
 
     def test_all_meanings_of_three_marks(self):
         book = Book(["c", "a", "b"])
-        for number in range(256):
-            some = ("no",)
-            for turn, row in enumerate(rows(3)):
-                if number >> turn & 1:
-                    one = ("yes",)
-                    for mark, value in zip("cab", row):
-                        one = ("and", one, ("mark", mark) if value else ("not", ("mark", mark)))
-                    some = ("or", some, one)
+        for number, some in enumerate(every_meaning(book.order())):
             self.assertEqual(meaning(book, book.enter(some)), [number >> turn & 1 for turn in range(8)])
         well_made(self, book)
         self.assertEqual(book.size(), 256)

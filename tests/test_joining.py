@@ -5,12 +5,9 @@ import unittest
 from decidebook.book import Book
 from decidebook.errors import NoMark, NoNumber, NoRoom, NoWord
 from decidebook.joining import for_each, for_some, held, joined, put, turned
-from helper import (A, B, C, MARKS, all_rooms, drawn_book, makes_none, meaning, no_rooms, orders, plain_lead,
-                    refused_by, rows, well_made)
+from helper import (A, B, C, MARKS, NO_WORDS, WORDS, again, drawn_book, makes_none, meaning, no_rooms, orders,
+                    plain_lead, refused_by, rows, well_made)
 
-WORDS = ["".join(figures) for figures in itertools.product("01", repeat=4)]
-NO_WORDS = ["", "0", "000", "00000", "0002", "2000", "000-", "00 1", " 0001", "0001 ", "0001\n", "00o1", "abcd", "and",
-            "0b01", "1" * 2000, "-001", "+001", "01,1"]
 NO_MARKS = ["", "i", "A", "ab", "h", "a ", " a", "yes", "0", "a" * 2000, "\n"]
 NO_VALUES = [2, -1, 3, 10, 10 ** 60 - 1, 1 - 10 ** 60]
 
@@ -53,13 +50,10 @@ class Joining(unittest.TestCase):
 
     def right(self, book, call, *given):
         """What is told leads each row as it should, the elder rooms stay, and done again none is made."""
-        before = all_rooms(book)
         due = [PLAIN[call](book, row, *given) for row in rows(len(book.order()))]
-        told = call(book, *given)
+        told = again(self, book, call, book, *given)
         self.assertIs(type(told), int)
         self.assertEqual(meaning(book, told), due, given)
-        self.assertEqual(all_rooms(book)[:len(before)], before)
-        self.assertEqual(makes_none(self, book, call, book, *given), told)
         return told
 
     def all_ways(self, book, one, other):
