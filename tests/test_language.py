@@ -32,6 +32,14 @@ BARRED_NODES = (ast.Set, ast.SetComp, ast.DictComp, ast.GeneratorExp, ast.NamedE
                 ast.Yield, ast.YieldFrom, ast.AnnAssign)
 
 
+WALKED = ("zip", "enumerate", "reversed", "range", "items", "keys", "values")
+
+TAKING = ("list", "tuple", "dict", "sorted", "sum", "any", "all", "enumerate", "zip")
+
+KEYWORDS = {"sorted": ("key", "reverse"), "min": ("key", "default"), "max": ("key", "default"), "sum": ("start",),
+            "enumerate": ("start",), "zip": ("strict",)}
+
+
 def faults_of_text(text):
     rows = text.split("\n")
     if not re.fullmatch(r"[ -~\n]*", text):
@@ -116,15 +124,50 @@ def faults_of_value(node):
         yield "L27: a power whose exponent isn't written"
 
 
+def called(node):
+    """The name that is called, or the method's, or nothing."""
+    if not isinstance(node, ast.Call):
+        return ""
+    return node.func.id if isinstance(node.func, ast.Name) else getattr(node.func, "attr", "")
+
+
+def is_walked(node, above):
+    if isinstance(above, (ast.For, ast.comprehension)):
+        return above.iter is node
+    if called(above) in ("min", "max"):
+        return above.args == [node]
+    return called(above) in TAKING and above.args[0] is node
+
+
+def faults_of_call(node, above):
+    name = called(node)
+    if name in WALKED and not is_walked(node, above):
+        yield "L23: what isn't walked on the spot"
+    if name in ("set", "frozenset"):
+        if not isinstance(above, (ast.Compare, ast.BinOp)) and called(above) not in ("sorted", "len"):
+            yield "L24: a set that is kept or walked"
+    if hasattr(builtins, name) or name in METHODS - OWN_ATTRIBUTES:
+        for keyword in node.keywords:
+            if keyword.arg not in KEYWORDS.get(name, ()):
+                yield "L22: this keyword"
+
+
+def faults_of_comprehension(node):
+    if isinstance(node, ast.ListComp) and (len(node.generators) > 1 or len(node.generators[0].ifs) > 1):
+        yield "L7: more than one for or if"
+
+
 def faults_of(text):
     yield from faults_of_text(text)
     tree = ast.parse(text)
     drawn = [alias.name for node in ast.walk(tree) if isinstance(node, ast.ImportFrom) for alias in node.names]
     known = drawn + [node.name for node in ast.walk(tree) if isinstance(node, ast.ClassDef)]
+    above = {node: outer for outer in ast.walk(tree) for node in ast.iter_child_nodes(outer)}
     for node in ast.walk(tree):
         found = list(faults_of_statement(node)) if isinstance(node, ast.stmt) else []
         found += list(faults_of_class(node)) if isinstance(node, ast.ClassDef) else []
-        found += list(faults_of_name(node, known)) + list(faults_of_value(node))
+        found += list(faults_of_call(node, above[node])) if isinstance(node, ast.Call) else []
+        found += list(faults_of_name(node, known)) + list(faults_of_value(node)) + list(faults_of_comprehension(node))
         for fault in found:
             yield f"{fault}, row {getattr(node, 'lineno', '?')}"
 
@@ -158,7 +201,10 @@ class Language(unittest.TestCase):
                      "def f(*a): pass\n", "def f(list): pass\n", "x = {1}\n", "x = eval\n", "with x: pass\n",
                      "x = y is z\n", "# type\n", "x = y.sort()\n", "class X(Y, Z): pass\n", "class X: y = 1\n",
                      "class X:\n    def __hash__(self): pass\n", "class X: pass\ndef f(): X = 1\n",
-                     "x = '%'\n", "x = 2 ** y\n", "x = 1\t\n", "x = (a for a in b)\n"):
+                     "x = '%'\n", "x = 2 ** y\n", "x = 1\t\n", "x = (a for a in b)\n", "x = range(3)\n",
+                     "x = min(range(3), 4)\n", "x = f(zip(y, z))\n", "x = list(y, reversed(z))\n", "x = y.items()\n",
+                     "x = set(y)\n", "for x in set(y): pass\n", "x = int(y, base=2)\n", "x = y.split(sep='a')\n",
+                     "x = [a for b in c for a in b]\n", "x = [a for a in b if a if c]\n"):
             with self.subTest(text):
                 self.assertNotEqual(list(faults_of(text)), [])
 
