@@ -55,7 +55,7 @@ def preimage(book, steps, room):
     return book.room_with(before(book, steps, book.table_at(room)))
 
 
-# From here on tables stand for rooms of now, so that nothing is made on the way.
+# Here tables stand for rooms of now, so that no room is made on the way.
 def after(book, steps, table):
     marks = len(book.order())
     led = for_any(table & book.table_at(steps), now_places(book), marks)
